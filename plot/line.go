@@ -28,11 +28,11 @@ func (l line) meets(m line) bool {
 	if l.has(m.from) || l.has(m.to) || m.has(l.from) || m.has(l.to) {
 		return true
 	}
-	return l.parts(m) && m.parts(l)
+	return l.divides(m) && m.divides(l)
 }
 
-// parts reports whether the ends of m are to the left and to the right of l.
-func (l line) parts(m line) bool {
+// divides reports whether the ends of m are to the left and to the right of l.
+func (l line) divides(m line) bool {
 	a := turn(l.from, l.to, m.from)
 	b := turn(l.from, l.to, m.to)
 	return a < 0 && b > 0 || a > 0 && b < 0
